@@ -1,0 +1,35 @@
+import unittest
+
+from tests.samples import odd_values, without
+from whoseuse.plain import ascending, decimal, is_name, is_whole
+
+
+class Plain(unittest.TestCase):
+
+    def test_integers(self):
+        for value in (0, 1, -1, 10 ** 400):
+            self.assertIs(is_whole(value), True)
+        for value in without(odd_values(), int):
+            self.assertIs(is_whole(value), False)
+
+    def test_names(self):
+        for value in ('a', 'ann', 'abcdefgh', 'book'):
+            self.assertIs(is_name(value), True)
+        for value in without(odd_values(), str) + [0, 1, '', 'main', 'house', 'rest', 'abcdefghi', 'Ann', 'a b', 'a1']:
+            self.assertIs(is_name(value), False)
+        self.assertIs(is_name(['a']), False)
+        self.assertIs(is_name(('a', 'b')), False)
+
+    def test_decimal(self):
+        for number in list(range(120)) + [999, 1000, 1234567890]:
+            self.assertEqual(decimal(str(number)), number)
+        for word in ('', '-', '-1', '+1', '00', '01', '007', ' 1', '1 ', '1\n', '1.0', 'x', '1x', '1_0'):
+            self.assertEqual(decimal(word), -1)
+
+    def test_ascending(self):
+        self.assertEqual(ascending(['b', 'a', 'b', 'aa']), ('a', 'aa', 'b'))
+        self.assertEqual(ascending([]), ())
+
+
+if __name__ == '__main__':
+    unittest.main()
