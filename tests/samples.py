@@ -1,7 +1,10 @@
 """Values of all kinds, to hand in where something else is asked for."""
 
 from whoseuse.amounts import Amount
+from whoseuse.errors import BadDay
 from whoseuse.houses import House
+from whoseuse.numbers import Numbers
+from whoseuse.weighings import Weighing
 
 SMALL = 'days 1\nflat a 1'
 
@@ -12,7 +15,17 @@ def odd_values():
         None, True, False, '', 'a', 'main', '1', '\n', (), (1,), (1, 2), ('a', 0), [], [1], ['a'],
         [(1,)], {}, {'a': 1}, {1: ()}, ((((),),),), [[[]]], Amount(0), Amount(1), Amount(1, 2),
         (Amount(1),), [Amount(1)], House(SMALL), (House(SMALL),), {'a': House(SMALL)},
+        Weighing(House(SMALL)), (Weighing(House(SMALL), 1),), Numbers(House(SMALL)), [Numbers(House(SMALL))],
+        ('a', True), ('a', Amount(1)), (True, 1), ('main', 1, 1), ['a', 1], [[1]], BadDay(1), deep(),
     ]
+
+
+def deep():
+    """A value that is nested 20 deep."""
+    value = ('a', 1)
+    for at in range(18):
+        value = [value] if at in (3, 9) else {'a': value} if at == 12 else (value,)
+    return value
 
 
 def without(values, kinds):

@@ -3,9 +3,10 @@ import unittest
 from fractions import Fraction
 
 from tests.samples import SMALL, odd_values, without
-from whoseuse.amounts import Amount
+from whoseuse.amounts import Amount, as_amount
 from whoseuse.errors import BadAmount, BadText, NoQuotient
 from whoseuse.houses import House
+from whoseuse.weighings import Weighing
 
 ARITHMETIC = [operator.add, operator.sub, operator.mul, operator.floordiv]
 ORDER = [operator.lt, operator.le, operator.gt, operator.ge]
@@ -17,8 +18,8 @@ def made(fraction):
 
 
 def no_operands():
-    """Values that are neither Amounts nor integers; bools are among them."""
-    return without(odd_values(), (Amount, int))
+    """Values that are neither Amounts nor integers; bools are among them. (Weighings tell of their own operators.)"""
+    return without(odd_values(), (Amount, int, Weighing))
 
 
 class Kept(unittest.TestCase):
@@ -173,6 +174,14 @@ class Texts(unittest.TestCase):
             with self.assertRaises(BadText) as caught:
                 Amount.of(value)
             self.assertIs(caught.exception.value, value)
+
+
+class Handed(unittest.TestCase):
+
+    def test_as_amount(self):
+        amount = Amount(1, 2)
+        self.assertIs(as_amount(amount), amount)
+        self.assertEqual(repr(as_amount(-7)), 'Amount(-7)')
 
 
 class Arithmetic(unittest.TestCase):

@@ -143,6 +143,46 @@ class Form(unittest.TestCase):
             self.assertIsInstance(node.value, ast.Constant, where)
             self.assertIsInstance(node.target, ast.Name, where)
 
+    def test_no_property_is_assigned(self):
+        # A property without a setter bars its name as an attribute in all classes.
+        properties = {node.name for _, node in nodes(ast.FunctionDef) for decorator in node.decorator_list
+                      if isinstance(decorator, ast.Name) and decorator.id == 'property'}
+        self.assertTrue(properties)
+        for where, node in nodes(ast.Attribute):
+            if isinstance(node.ctx, ast.Store):
+                self.assertNotIn(node.attr, properties, where)
+
+    def test_no_method_is_an_attribute(self):
+        stored = {node.attr for _, node in nodes(ast.Attribute) if isinstance(node.ctx, ast.Store)}
+        methods = {node.name for _, owner in nodes(ast.ClassDef) for node in owner.body
+                   if isinstance(node, ast.FunctionDef)}
+        self.assertEqual(stored & methods, set())
+
+    def test_what_has_items_tells_how_it_is_gone_over(self):
+        for where, node in nodes(ast.ClassDef):
+            methods = {part.name for part in node.body if isinstance(part, ast.FunctionDef)}
+            if '__getitem__' in methods:
+                self.assertIn('__iter__', methods, where)
+
+    def test_local_names_are_no_imports_and_no_classes(self):
+        for path, tree in trees():
+            taken = {alias.name for node in ast.walk(tree) if isinstance(node, ast.ImportFrom) for alias in node.names}
+            taken |= {node.name for node in ast.walk(tree) if isinstance(node, ast.ClassDef)}
+            for node in ast.walk(tree):
+                if isinstance(node, ast.arg):
+                    self.assertNotIn(node.arg, taken, f'{path.name}:{node.lineno}')
+                if isinstance(node, ast.Name) and isinstance(node.ctx, ast.Store):
+                    self.assertNotIn(node.id, taken, f'{path.name}:{node.lineno}')
+
+    def test_no_file_imports_from_itself_by_a_way_round(self):
+        needs = {path.stem: {node.module.split('.')[1] for node in ast.walk(tree) if isinstance(node, ast.ImportFrom)
+                             and node.module.startswith('whoseuse.')} for path, tree in trees()}
+        while needs:
+            free = [name for name, wanted in needs.items() if not wanted & set(needs)]
+            self.assertTrue(free, needs)
+            for name in free:
+                del needs[name]
+
     def test_what_is_sorted_is_plain(self):
         # With a class that has an order, sorted, min and max are handed plain numbers and strings alone.
         for where, node in nodes(ast.Call):

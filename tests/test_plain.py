@@ -1,7 +1,7 @@
 import unittest
 
 from tests.samples import odd_values, without
-from whoseuse.plain import ascending, decimal, is_name, is_whole
+from whoseuse.plain import ascending, climbs, decimal, is_name, is_whole
 
 
 class Plain(unittest.TestCase):
@@ -29,6 +29,12 @@ class Plain(unittest.TestCase):
     def test_ascending(self):
         self.assertEqual(ascending(['b', 'a', 'b', 'aa']), ('a', 'aa', 'b'))
         self.assertEqual(ascending([]), ())
+
+    def test_climbs(self):
+        for rows in ((), (('a', 1),), (('a', 1), ('a', 2), ('b', 1)), [('a', 9), ('b', 0)]):
+            self.assertIs(climbs(rows), True)
+        for rows in ((('a', 1), ('a', 1)), (('a', 2), ('a', 1)), (('a', 1), ('c', 1), ('b', 1))):
+            self.assertIs(climbs(rows), False)
 
 
 if __name__ == '__main__':

@@ -128,6 +128,11 @@ def is_amount(value):
     return isinstance(value, Amount) or is_whole(value)
 
 
+def as_amount(value):
+    """The Amount that is equal to an Amount or an integer."""
+    return value if isinstance(value, Amount) else Amount(value)
+
+
 def parts(amount):
     """(number, under) of an Amount or an integer."""
     if isinstance(amount, Amount):

@@ -29,3 +29,8 @@ def ascending(words):
     """The ascending tuple of the strings in words."""
     kept = {word: True for word in words}
     return tuple(sorted([str(word) for word in kept]))
+
+
+def climbs(rows):
+    """Whether each of the rows, which can be compared, is greater than the one ahead of it."""
+    return all([one < other for one, other in zip(rows, rows[1:])])
