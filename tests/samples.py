@@ -1,12 +1,15 @@
 """Values of all kinds, to hand in where something else is asked for."""
 
 from whoseuse.amounts import Amount
+from whoseuse.books import Book
 from whoseuse.errors import BadDay
 from whoseuse.houses import House
 from whoseuse.numbers import Numbers
+from whoseuse.rules import Rule
 from whoseuse.weighings import Weighing
 
 SMALL = 'days 1\nflat a 1'
+LITTLE = 'every 1\nbehind 1\nlate now\nblock days\nrest house'
 
 
 def odd_values():
@@ -17,6 +20,7 @@ def odd_values():
         (Amount(1),), [Amount(1)], House(SMALL), (House(SMALL),), {'a': House(SMALL)},
         Weighing(House(SMALL)), (Weighing(House(SMALL), 1),), Numbers(House(SMALL)), [Numbers(House(SMALL))],
         ('a', True), ('a', Amount(1)), (True, 1), ('main', 1, 1), ['a', 1], [[1]], BadDay(1), deep(),
+        Book(House(SMALL)), (Book(House(SMALL)), 1), Rule(LITTLE), [Rule(LITTLE)], {'rule': Rule(LITTLE)},
     ]
 
 

@@ -113,7 +113,8 @@ class Form(unittest.TestCase):
 
     def test_builtins(self):
         for where, node in nodes(ast.Name):
-            if node.id in vars(builtins):
+            # The examples, when they are run, leave their last value as _ among the builtins.
+            if node.id in vars(builtins) and node.id != '_':
                 self.assertIn(node.id, BUILTINS, where)
                 self.assertIsInstance(node.ctx, ast.Load, where)
         for where, node in nodes(ast.arg):

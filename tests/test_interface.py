@@ -3,8 +3,10 @@ import inspect
 import unittest
 
 from whoseuse.amounts import Amount
+from whoseuse.books import Book
 from whoseuse.houses import House
 from whoseuse.numbers import Numbers
+from whoseuse.rules import Rule
 from whoseuse.weighings import Weighing
 
 # class: its parameters, and the parameters of each method that the interface lists
@@ -15,6 +17,11 @@ CLASSES = {
     ('weighings', 'Weighing'): (['house', 'constant', 'rows'], {'__call__': ['self', 'use']}),
     ('numbers', 'Numbers'): (['house', 'rows'], {'put': ['self', 'meter', 'morning', 'number'],
                                                  'only': ['self', 'places'], 'without': ['self', 'places']}),
+    ('books', 'Book'): (['house'], {'go': ['self', 'morning'], 'drop': ['self', 'meter', 'morning'],
+                                    'expect': ['self', 'meter', 'morning'], 'undo': ['self'], 'redo': ['self'],
+                                    'stood': ['self', 'morning'], 'copy': ['self'], 'trial': ['self', 'keep'],
+                                    'tried': ['self', 'look', 'keep'], 'of': ['text']}),
+    ('rules', 'Rule'): (['text'], {'runs': ['self', 'house']}),
 }
 
 # function: its parameters
@@ -31,6 +38,10 @@ FUNCTIONS = {
     ('ends', 'shows_fitting'): ['numbers', 'value'],
     ('ends', 'shows_least'): ['numbers', 'weighing', 'value'],
     ('ends', 'shows_greatest'): ['numbers', 'weighing', 'value'],
+    ('doubts', 'doubted'): ['numbers'],
+    ('doubts', 'needless'): ['numbers', 'meter', 'morning'],
+    ('doubts', 'shows_doubted'): ['numbers', 'value'],
+    ('doubts', 'shows_needless'): ['numbers', 'meter', 'morning', 'value'],
 }
 
 
@@ -60,15 +71,22 @@ class Interface(unittest.TestCase):
     def test_defaults(self):
         self.assertEqual(Weighing.__init__.__defaults__, (0, None))
         self.assertEqual(Numbers.__init__.__defaults__, ((),))
+        for method in (Book.trial, Book.tried):
+            self.assertIs(inspect.signature(method).parameters['keep'].kind, inspect.Parameter.KEYWORD_ONLY)
+            self.assertEqual(method.__kwdefaults__, {'keep': False})
 
     def test_operators_stand_in_the_classes_themselves(self):
         for name in ('eq', 'add', 'radd', 'sub', 'rsub', 'mul', 'rmul', 'neg', 'getitem', 'call'):
             self.assertIn(f'__{name}__', vars(Weighing))
         for name in ('eq', 'le', 'lt', 'ge', 'gt', 'getitem', 'contains', 'len'):
             self.assertIn(f'__{name}__', vars(Numbers))
+        for name in ('eq', 'getitem', 'setitem', 'contains', 'len'):
+            self.assertIn(f'__{name}__', vars(Book))
+        self.assertIn('__eq__', vars(Rule))
 
     def test_of_is_static(self):
-        self.assertIsInstance(vars(Amount)['of'], staticmethod)
+        for listed in (Amount, Book):
+            self.assertIsInstance(vars(listed)['of'], staticmethod)
 
     def test_attributes_are_there_from_the_start(self):
         for name in ('number', 'under', 'text'):
@@ -79,6 +97,10 @@ class Interface(unittest.TestCase):
             self.assertTrue(hasattr(Weighing(House('days 1\nflat a 1')), name))
         for name in ('house', 'rows', 'stretches'):
             self.assertTrue(hasattr(Numbers(House('days 1\nflat a 1')), name))
+        for name in ('house', 'today', 'numbers', 'expected', 'told', 'journal'):
+            self.assertTrue(hasattr(Book(House('days 1\nflat a 1')), name))
+        for name in ('text', 'every', 'behind', 'late', 'block', 'rest'):
+            self.assertTrue(hasattr(Rule('every 1\nbehind 1\nlate now\nblock days\nrest house'), name))
 
 
 if __name__ == '__main__':

@@ -34,3 +34,12 @@ def ascending(words):
 def climbs(rows):
     """Whether each of the rows, which can be compared, is greater than the one ahead of it."""
     return all([one < other for one, other in zip(rows, rows[1:])])
+
+
+def choices(row, most):
+    """All tuples of up to so many of the ascending row, themselves ascending: by how many, then as tuples."""
+    found, layer = [()], [((), 0)]
+    for _ in range(most):
+        layer = [(taken + (row[at],), at + 1) for taken, first in layer for at in range(first, len(row))]
+        found = found + [taken for taken, first in layer]
+    return found
