@@ -2,6 +2,7 @@
 
 from whoseuse.amounts import Amount
 from whoseuse.books import Book
+from whoseuse.desk import Desk
 from whoseuse.errors import BadDay
 from whoseuse.houses import House
 from whoseuse.numbers import Numbers
@@ -21,6 +22,7 @@ def odd_values():
         Weighing(House(SMALL)), (Weighing(House(SMALL), 1),), Numbers(House(SMALL)), [Numbers(House(SMALL))],
         ('a', True), ('a', Amount(1)), (True, 1), ('main', 1, 1), ['a', 1], [[1]], BadDay(1), deep(),
         Book(House(SMALL)), (Book(House(SMALL)), 1), Rule(LITTLE), [Rule(LITTLE)], {'rule': Rule(LITTLE)},
+        Desk(SMALL, LITTLE),
     ]
 
 

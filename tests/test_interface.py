@@ -2,8 +2,10 @@ import importlib
 import inspect
 import unittest
 
+from tests.samples import LITTLE
 from whoseuse.amounts import Amount
 from whoseuse.books import Book
+from whoseuse.desk import Desk
 from whoseuse.houses import House
 from whoseuse.numbers import Numbers
 from whoseuse.rules import Rule
@@ -22,6 +24,7 @@ CLASSES = {
                                     'stood': ['self', 'morning'], 'copy': ['self'], 'trial': ['self', 'keep'],
                                     'tried': ['self', 'look', 'keep'], 'of': ['text']}),
     ('rules', 'Rule'): (['text'], {'runs': ['self', 'house']}),
+    ('desk', 'Desk'): (['text', 'rule'], {'say': ['self', 'line']}),
 }
 
 # function: its parameters
@@ -42,6 +45,18 @@ FUNCTIONS = {
     ('doubts', 'needless'): ['numbers', 'meter', 'morning'],
     ('doubts', 'shows_doubted'): ['numbers', 'value'],
     ('doubts', 'shows_needless'): ['numbers', 'meter', 'morning', 'value'],
+    ('bills', 'billed'): ['book', 'rule', 'run'],
+    ('bills', 'account'): ['book', 'rule', 'person'],
+    ('paying', 'off'): ['book', 'rule', 'person'],
+    ('paying', 'pays'): ['book', 'rule', 'payer', 'user'],
+    ('paying', 'fair'): ['book', 'rule', 'amount'],
+    ('paying', 'alike'): ['book', 'one', 'other'],
+    ('paying', 'shows_fair'): ['book', 'rule', 'amount', 'value'],
+    ('paying', 'shows_alike'): ['book', 'one', 'other', 'value'],
+    ('settling', 'settled'): ['numbers', 'weighing', 'amount', 'readings'],
+    ('settling', 'fewest'): ['numbers', 'weighing', 'amount', 'offers'],
+    ('settling', 'shows_settled'): ['numbers', 'weighing', 'amount', 'readings', 'value'],
+    ('settling', 'shows_fewest'): ['numbers', 'weighing', 'amount', 'offers', 'value'],
 }
 
 
@@ -100,7 +115,9 @@ class Interface(unittest.TestCase):
         for name in ('house', 'today', 'numbers', 'expected', 'told', 'journal'):
             self.assertTrue(hasattr(Book(House('days 1\nflat a 1')), name))
         for name in ('text', 'every', 'behind', 'late', 'block', 'rest'):
-            self.assertTrue(hasattr(Rule('every 1\nbehind 1\nlate now\nblock days\nrest house'), name))
+            self.assertTrue(hasattr(Rule(LITTLE), name))
+        for name in ('book', 'rule'):
+            self.assertTrue(hasattr(Desk('days 1\nflat a 1', LITTLE), name))
 
 
 if __name__ == '__main__':

@@ -1,11 +1,11 @@
 """Books: what was told of the meters of a house, and when."""
 
-from whoseuse.errors import Back, BadHouse, BadJournal, BadMorning, BadNumber, Expected, MeterError, NoMeter, NoNumber
+from whoseuse.errors import Back, BadHouse, BadJournal, BadMorning, Expected, MeterError, NoMeter, NoNumber
 from whoseuse.errors import NothingToRedo, NothingToUndo, NotYet, Past
 from whoseuse.forms import act_of, do_act
 from whoseuse.houses import House
 from whoseuse.meters import is_meter, is_morning
-from whoseuse.numbers import Numbers, is_number, is_row_morning
+from whoseuse.numbers import Numbers, is_row_morning
 
 OPENING = "book"
 
@@ -134,11 +134,10 @@ class Book:
         self._check_reading(meter, morning)
         if morning > self.today:
             raise NotYet(morning)
-        if not is_number(worth):
-            raise BadNumber(worth)
+        # BadNumber comes from here.
+        stand = self.numbers.put(meter, morning, worth)
         awaits = tuple([place for place in self.expected if not place == at])
         notes = self.told + ((self.today, meter, morning, worth),)
-        stand = self.numbers.put(meter, morning, worth)
         self._turn(Page(f"read {meter} {morning} {worth}", self.today, stand, awaits, notes))
 
     def drop(self, meter, morning):
