@@ -1,7 +1,8 @@
+import itertools
 import unittest
 
 from tests.samples import odd_values, without
-from whoseuse.plain import ascending, climbs, decimal, is_name, is_whole
+from whoseuse.plain import ascending, choices, climbs, decimal, is_name, is_whole
 
 
 class Plain(unittest.TestCase):
@@ -35,6 +36,13 @@ class Plain(unittest.TestCase):
             self.assertIs(climbs(rows), True)
         for rows in ((('a', 1), ('a', 1)), (('a', 2), ('a', 1)), (('a', 1), ('c', 1), ('b', 1))):
             self.assertIs(climbs(rows), False)
+
+    def test_choices(self):
+        for row in ((), (1,), ('a', 'b', 'c', 'd'), [('a', 1), ('a', 2), ('b', 1)]):
+            for most in range(6):
+                told = [some for many in range(most + 1) for some in itertools.combinations(row, many)]
+                self.assertEqual(choices(row, most)[:len(told)], told)
+                self.assertEqual(len(choices(row, most)), len(told))
 
 
 if __name__ == '__main__':

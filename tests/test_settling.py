@@ -563,6 +563,11 @@ class Fewest(Checked):
         result = fewest(numbers, weighing, 5, offers)
         self.check_fewest(numbers, weighing, 5, offers, result)
         self.assertEqual(result[:3], ('choice', 3, (('b', 1), ('c', 1), ('d', 1))))
+        # At the dearest prices.
+        dear = tuple(row[:2] + (9,) for row in offers)
+        result = fewest(numbers, weighing, 5, dear)
+        self.check_fewest(numbers, weighing, 5, dear, result)
+        self.assertEqual(result[:3], ('choice', 27, (('b', 1), ('c', 1), ('d', 1))))
         four = Weighing(house, 0, ((1,), (1,), (1,), (1,)))
         result = fewest(numbers, four, 1, offers)
         self.check_fewest(numbers, four, 1, offers, result)
@@ -645,11 +650,19 @@ class ShowsFewest(unittest.TestCase):
                       (reasons[0], (list(reasons[1][0]), use, other), reasons[2]), (reasons[0], reasons[1], reasons[1]),
                       (reasons[0], ((('a', 2), ('main', 1)), use, other), reasons[2]), (reasons[0], (None, use, other), reasons[2]),
                       (reasons[0], (reasons[1][0], ((0, 0), (0, 0)), other), reasons[2]), (reasons[0], (reasons[1][0], use, None), reasons[2]),
-                      ((((False,),) + reasons[0][1:]), reasons[1], reasons[2])]:
+                      ((((False,),) + reasons[0][1:]), reasons[1], reasons[2]),
+                      (reasons[0], reasons[1], ((('main', True),),) + reasons[2][1:]),
+                      (reasons[0], reasons[1], ((('main', Amount(1)),),) + reasons[2][1:])]:
             self.assertIs(self.told((word, price, choice, tree, value)), False, value)
         for value in odd_values() + [right[:4], right + ((),), list(right), ('none', reasons), ('none',) + right[1:], right[1:], 0,
                                      (True,) + right[1:], ('settled',) + right[1:], (['choice'],) + right[1:]]:
             self.assertIs(self.told(value), False, value)
+
+    def test_a_choice_that_is_not_offered(self):
+        word, price, choice, tree, reasons = fewest(self.numbers, self.ann, 0, self.offers)
+        for readings in ((('b', 2), ('main', 1)), (('b', 1), ('b', 2), ('main', 1)), (('b', 1),)):
+            result = settled(self.numbers, self.ann, 0, readings)
+            self.assertIs(self.told((word, price, readings, result[1], reasons)), False)
 
     def test_a_dearer_choice(self):
         tree = settled(self.numbers, self.ann, 0, (('a', 1),))[1]

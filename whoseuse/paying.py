@@ -3,7 +3,7 @@
 from whoseuse.amounts import is_amount
 from whoseuse.bills import account
 from whoseuse.ends import greatest, least
-from whoseuse.errors import BadAmount, NoPerson
+from whoseuse.errors import BadAmount
 from whoseuse.houses import NOBODY
 from whoseuse.papers import ceiling_by, floor_by, is_paper
 from whoseuse.plans import check_fits, is_fit
@@ -17,18 +17,15 @@ def off(book, rule, person):
 
 def pays(book, rule, payer, user):
     """What the payer pays of the user's use."""
-    house = book.house
-    for person in (payer, user):
-        if person not in house.people:
-            raise NoPerson(person)
-    paid, used = account(book, rule, payer), use_of(house, user)
+    paid, used = account(book, rule, payer), use_of(book.house, user)
     rows = [tuple([weight * one for weight, one in zip(row, ones)]) for row, ones in zip(paid.rows, used.rows)]
-    return Weighing(house, 0, tuple(rows))
+    return Weighing(book.house, 0, tuple(rows))
 
 
 def fair(book, rule, amount):
     """("fair", rows) if nobody but house pays more than the amount too much, or ("unfair", person, use)."""
     check_amount(amount)
+    # There may be nobody but house, of whom nothing is asked.
     check_fits(book.numbers)
     rows = []
     for person in payers(book):
@@ -58,7 +55,6 @@ def shows_fair(book, rule, amount, value):
 
 def alike(book, one, other):
     """("alike", rows) if both rules come to the same accounts, or ("unlike", person, use)."""
-    check_fits(book.numbers)
     rows = []
     for person in book.house.people:
         parting = difference(book, one, other, person)
